@@ -1,0 +1,85 @@
+import ast
+import doctest
+import inspect
+import unittest
+from pathlib import Path
+
+from widerkeys import errors, kinds, windows
+
+ROOT = Path(__file__).resolve().parent.parent
+FILES = sorted((ROOT / "widerkeys").rglob("*.py"))
+
+# The library that rule L2 allows beside the package itself.
+LIBRARY = ("heapq", "math", "itertools", "collections")
+
+
+class InterfaceTest(unittest.TestCase):
+    def test_functions_and_classes_stand_in_their_files(self):
+        for module, names in ((kinds, ("Kind",)), (windows, ("alike", "ordered")), (errors, ("WidthError",))):
+            for name in names:
+                self.assertEqual(getattr(module, name).__module__, module.__name__)
+
+    def test_methods_stand_in_the_class_itself(self):
+        for name in ("cut", "signed", "unsigned", "digits", "read"):
+            self.assertIn(name, vars(kinds.Kind))
+
+    def test_attributes_are_set_when_a_kind_is_created(self):
+        kind = kinds.Kind(-5, 5)
+        self.assertEqual([hasattr(kind, name) for name in ("low", "high", "size")], [True] * 3)
+
+    def test_names_of_parameters(self):
+        wanted = {
+            kinds.Kind: ["low", "high"],
+            kinds.Kind.signed: ["bits"],
+            kinds.Kind.unsigned: ["bits"],
+            kinds.Kind.digits: ["many"],
+            kinds.Kind.read: ["text"],
+            kinds.Kind(0, 1).cut: ["number"],
+            windows.alike: ["kind", "one", "other"],
+            windows.ordered: ["kind", "one", "other"],
+        }
+        for told, names in wanted.items():
+            self.assertEqual(list(inspect.signature(told).parameters), names)
+
+
+class ReadmeTest(unittest.TestCase):
+    def test_its_examples(self):
+        told = doctest.testfile(str(ROOT / "README.md"), module_relative=False)
+        self.assertEqual(told.failed, 0)
+        self.assertGreater(told.attempted, 0)
+
+
+class LanguageTest(unittest.TestCase):
+    """The rules of the language that are plain to see: L1, L2, L10, L14, L16."""
+
+    def test_the_package_holds_nothing_but_python(self):
+        for path in (ROOT / "widerkeys").rglob("*"):
+            if "__pycache__" not in path.parts and not path.is_dir():
+                self.assertEqual(path.suffix, ".py", path)
+
+    def test_characters_and_lengths(self):
+        for path in FILES:
+            lines = path.read_text(encoding="utf-8").split("\n")
+            self.assertLessEqual(len(lines), 400, path)
+            for line in lines:
+                self.assertLessEqual(len(line), 120, path)
+                self.assertTrue(all(" " <= sign <= "~" for sign in line), path)
+
+    def test_functions_are_short(self):
+        for path in FILES:
+            for node in ast.walk(ast.parse(path.read_text())):
+                if isinstance(node, ast.FunctionDef):
+                    self.assertLessEqual(node.end_lineno - node.lineno + 1, 40, (path, node.name))
+
+    def test_imports_come_from_the_package(self):
+        for path in FILES:
+            for node in ast.walk(ast.parse(path.read_text())):
+                self.assertNotIsInstance(node, ast.Import, path)
+                if isinstance(node, ast.ImportFrom):
+                    self.assertEqual(node.level, 0, path)
+                    allowed = node.module in LIBRARY or node.module.startswith("widerkeys.")
+                    self.assertTrue(allowed, (path, node.module))
+
+
+if __name__ == "__main__":
+    unittest.main()

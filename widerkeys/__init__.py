@@ -1,0 +1,1 @@
+"""Widerkeys: numbers of rows made wider while elder and newer programs run."""
