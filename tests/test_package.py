@@ -4,7 +4,7 @@ import inspect
 import unittest
 from pathlib import Path
 
-from widerkeys import errors, kinds, windows
+from widerkeys import errors, kinds, marks, runs, steps, windows, worlds
 
 ROOT = Path(__file__).resolve().parent.parent
 FILES = sorted((ROOT / "widerkeys").rglob("*.py"))
@@ -15,7 +15,15 @@ LIBRARY = ("heapq", "math", "itertools", "collections")
 
 class InterfaceTest(unittest.TestCase):
     def test_functions_and_classes_stand_in_their_files(self):
-        for module, names in ((kinds, ("Kind",)), (windows, ("alike", "ordered")), (errors, ("WidthError",))):
+        for module, names in (
+            (errors, ("WidthError",)),
+            (kinds, ("Kind",)),
+            (windows, ("alike", "ordered")),
+            (worlds, ("World",)),
+            (steps, ("is_step", "moments")),
+            (runs, ("shows_wrong",)),
+            (marks, ("is_mark", "within")),
+        ):
             for name in names:
                 self.assertEqual(getattr(module, name).__module__, module.__name__)
 
@@ -37,6 +45,12 @@ class InterfaceTest(unittest.TestCase):
             kinds.Kind(0, 1).cut: ["number"],
             windows.alike: ["kind", "one", "other"],
             windows.ordered: ["kind", "one", "other"],
+            worlds.World: ["narrow", "wide", "columns", "programs"],
+            steps.is_step: ["world", "value"],
+            steps.moments: ["world", "span", "plan"],
+            runs.shows_wrong: ["world", "span", "plan", "value"],
+            marks.is_mark: ["world", "value"],
+            marks.within: ["world", "one", "other"],
         }
         for told, names in wanted.items():
             self.assertEqual(list(inspect.signature(told).parameters), names)
