@@ -4,7 +4,7 @@ import inspect
 import unittest
 from pathlib import Path
 
-from widerkeys import errors, kinds, marks, runs, steps, windows, worlds
+from widerkeys import errors, judging, kinds, marks, orders, returns, runs, steps, windows, worlds, writers
 
 ROOT = Path(__file__).resolve().parent.parent
 FILES = sorted((ROOT / "widerkeys").rglob("*.py"))
@@ -23,6 +23,10 @@ class InterfaceTest(unittest.TestCase):
             (steps, ("is_step", "moments")),
             (runs, ("shows_wrong",)),
             (marks, ("is_mark", "within")),
+            (judging, ("judged", "shows_safe", "readings", "furthest")),
+            (orders, ("cheapest", "shows_cheapest", "order_with", "musts")),
+            (returns, ("ways_back", "no_return")),
+            (writers, ("fewest",)),
         ):
             for name in names:
                 self.assertEqual(getattr(module, name).__module__, module.__name__)
@@ -51,6 +55,17 @@ class InterfaceTest(unittest.TestCase):
             runs.shows_wrong: ["world", "span", "plan", "value"],
             marks.is_mark: ["world", "value"],
             marks.within: ["world", "one", "other"],
+            judging.judged: ["world", "span", "plan"],
+            judging.shows_safe: ["world", "span", "plan", "value"],
+            judging.readings: ["world", "span", "plan"],
+            judging.furthest: ["world", "span", "plan", "index"],
+            orders.cheapest: ["task"],
+            orders.shows_cheapest: ["task", "value"],
+            orders.order_with: ["task", "one", "other"],
+            orders.musts: ["task"],
+            returns.ways_back: ["world", "span", "plan", "backs"],
+            returns.no_return: ["world", "span", "plan", "backs"],
+            writers.fewest: ["task", "rows"],
         }
         for told, names in wanted.items():
             self.assertEqual(list(inspect.signature(told).parameters), names)

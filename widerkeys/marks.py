@@ -3,6 +3,7 @@
 from widerkeys.editions import edition_of, editions_of
 from widerkeys.forms import is_ascending, is_count, is_tuple_of
 from widerkeys.integers import is_between
+from widerkeys.marking import is_less
 from widerkeys.worlds import IN_TWO_EVENTS
 
 MEANT = ("small", "great")
@@ -28,11 +29,7 @@ def is_mark(world, value):
 
 def within(world, one, other):
     """Whether any values are marks and the one is within the other one."""
-    if not is_mark(world, one) or not is_mark(world, other):
-        return False
-    if (one[0], one[2], one[3], one[5]) != (other[0], other[2], other[3], other[5]):
-        return False
-    return one[1] <= other[1] and all([late in other[4] for late in one[4]])
+    return is_mark(world, one) and is_mark(world, other) and is_less(one, other)
 
 
 def _is_top(world, meant, top):
