@@ -2,6 +2,7 @@
 
 import random
 
+from widerkeys.errors import NotNow
 from widerkeys.judging import judged
 from widerkeys.kinds import Kind
 from widerkeys.setups import Setup
@@ -111,3 +112,85 @@ def draw_safe_plan(draw, world, span, many):
                 setup = behind(setup, step)
                 break
     return plan
+
+
+def draw_task(seed):
+    """A task of at most five steps, None if none is drawn."""
+    draw = random.Random(seed)
+    rules = draw.choice([("cut",), RULES])
+    world = draw_world(draw, columns=2, deeds=draw.choice([0.05, 0.3]), rules=rules)
+    span = draw_span(draw, world)
+    plan = draw_safe_plan(draw, world, span, 4)
+    setup = Setup(world, span)
+    for step in plan:
+        setup = behind(setup, step)
+    if len(plan) < 4 and draw.random() < 0.5:
+        step = draw_step(draw, world, setup)
+        plan += (step,) if step else ()
+    mirrors = [step[:2] for step in plan if step[0] in ("up", "no up", "down", "no down")]
+    if not plan or len(set(mirrors)) < len(mirrors):
+        return None
+    steps = list(plan)
+    draw.shuffle(steps)
+    return world, span, tuple(steps), tuple(draw.choice([0, 1, 1, 2, 5]) for _ in steps)
+
+
+def draw_number(draw, yard):
+    first, last = yard.moment[4]
+    high = yard.world.narrow.high
+    numbers = [first, last, draw.randint(first, last)]
+    if first <= high:
+        numbers.append(draw.randint(first, min(last, high)))
+    if last > high:
+        numbers.append(draw.randint(max(first, high + 1), last))
+    return draw.choice(numbers)
+
+
+def draw_event(draw, yard, rows=4):
+    """An event that may happen now, or not, but none that changes what holds."""
+    world = yard.world
+    holds = yard.moment
+    cells = list(yard.cells)
+    word = draw.choice(["there", "set", "set", "set", "copy", "copy", "come", "come", "visit", "read", "match", "order"])
+    program, number = draw.choice(holds[0])
+    column = draw.choice(world.columns)
+    row = draw.randrange(rows)
+    if word == "there":
+        return "there", column, row, draw_number(draw, yard)
+    if word == "set":
+        return "set", program, number, column, row, draw_number(draw, yard)
+    if word == "copy":
+        return "copy", program, number, column, row, draw.randrange(rows)
+    if word == "visit":
+        return "visit", row
+    if word == "come":
+        late = [(cell, one) for cell in cells for one in yard.late(cell)]
+        if late:
+            cell, one = draw.choice(late)
+            return "come", one[0], one[1], *cell, one[2]
+    if word in ("match", "order") and len(cells) > 1:
+        one, other = draw.sample(cells, 2)
+        if word == "match":
+            return "match", program, number, *one, *other
+        if one[0] == other[0]:
+            return "order", program, number, *one, other[1]
+    if cells:
+        return "read", program, number, *draw.choice(cells)
+    return "set", program, number, column, row, draw_number(draw, yard)
+
+
+def lead_on(draw, yard, many, rows=4):
+    """Does so many drawn events, of which some cannot happen."""
+    for _ in range(many):
+        try:
+            yard.do(draw_event(draw, yard, rows))
+        except NotNow:
+            pass
+
+
+def end_step(draw, yard, step):
+    """Ends a long step that goes on, behind the visits that it waits for."""
+    for column, row in yard.cells:
+        if step[0] in ("fill", "fill back") and column == step[1] and yard.mark((column, row))[5] == "ahead":
+            yard.do(("visit", row))
+    yard.do(("end", step))

@@ -372,6 +372,17 @@ class ReadingTest(JudgedCase):
             self.assertEqual(run[-1][:2], ("read", "b"))
             self.assert_wrong(world, (256, 400), plan[:2] + plan[3:] + plan[2:3], "none", "old")
 
+    def test_far_alone(self):
+        # New cells have an empty wide side, so "either" reads the narrow one; in others the wide one is far.
+        writers = (IDLE, writer("both"), IDLE, writer("narrow"))
+        for sight in ("narrow", "wide"):
+            programs = (("a", writers[:3]), ("b", (IDLE, writers[3])), ("c", (IDLE, reader("either", sight, ()))))
+            world = World(BYTE, SHORT, ("id",), programs)
+            plan = (ADD, ("release", "a"), ("release", "a"), ("release", "c"), ("release", "b"))
+            self.assert_safe(world, (256, 400), plan[:4])
+            self.assert_wrong(world, (256, 400), plan, "old")
+            self.assert_safe(world, (256, 400), (ADD, ("release", "b"), ("release", "c")))
+
     def test_show(self):
         for deeds, safe in ((("show",), False), ((), True), (("match",), True), (DEEDS, False)):
             world = world_of(("wide", (("id", "narrow", deeds),), (("id", "narrow", "cut", "", 1),)))
@@ -444,6 +455,30 @@ class ComparisonTest(JudgedCase):
                 self.assert_wrong(world, (256, 300), plan, "match")
             else:
                 self.assert_safe(world, (256, 300), plan)
+
+    def test_exact_ahead_of_cut(self):
+        # Of 256 to 600 many numbers have one cut, but what is exact is not taken for another one.
+        maker = ("wide", (), (("id", "both", "cut", "", 1), ("ref", "narrow", "cut", "", 1)))
+        reads = (("id", "wide", ("match",)), ("ref", "narrow", ("match",)))
+        world = World(BYTE, SHORT, ("id", "ref"), (("a", (IDLE, maker)), ("b", (IDLE, ("wide", reads, ())))))
+        self.assert_wrong(world, (256, 600), (ADD, ("release", "a"), ("release", "b")), "match")
+
+    def test_both_have_to_be_compared(self):
+        # The one column has small numbers alone, the other one great ones, too.
+        for small, great in (("id", "ref"), ("ref", "id")):
+            for small_deeds, great_deeds, safe in (
+                (("match",), (), True),
+                (("match", "order", "show"), (), True),
+                (("match",), ("match",), False),
+                ((), ("match",), False),
+            ):
+                reads = tuple(sorted([(small, "narrow", small_deeds), (great, "narrow", great_deeds)]))
+                maker = ("wide", (), ((great, "narrow", "cut", "", 1),))
+                world = World(BYTE, SHORT, ("id", "ref"), (("a", (("narrow", reads, ()),)), ("b", (maker,))))
+                if safe:
+                    self.assert_safe(world, (100, 400), ())
+                else:
+                    self.assert_wrong(world, (100, 400), (), "match")
 
     def test_of_one_column_exact_and_cut(self):
         # The first fill leaves cuts in the wide side, and the newer edition writes great numbers there.

@@ -1,14 +1,12 @@
 """Safe orders of a task: the cheapest one, those with one step ahead of another, and what has to be ahead."""
 
-import random
 import unittest
 from itertools import permutations
 
-from drawn import RULES, behind, draw_safe_plan, draw_span, draw_step, draw_world
+from drawn import draw_task
 from widerkeys.errors import BadPlace, BadPlan, BadTask
 from widerkeys.judging import judged
 from widerkeys.orders import cheapest, musts, order_with, shows_cheapest
-from widerkeys.setups import Setup
 from widerkeys.steps import moments
 from widerkeys.worlds import World
 
@@ -245,6 +243,7 @@ class BadTaskTest(OrderCase):
         # Mirrors are put on and off once, by whichever rule.
         self.changed(2, STEPS[:5] + (UP,), STEPS[:5] + (("down", "id", "cut"),), (NO_UP,) + STEPS[:4] + (NO_UP,))
         self.changed(2, STEPS[:5], STEPS[:1])
+        self.assert_bad(TASK[:2] + (STEPS + (RELEASE,), (1,) * 7))
         self.assertEqual(cheapest(TASK[:2] + (STEPS[:1], (1,)))[0], "order")
 
     def test_durations(self):
@@ -255,29 +254,10 @@ class BadTaskTest(OrderCase):
 
 
 class DrawnTest(OrderCase):
-    def draw_task(self, seed):
-        draw = random.Random(seed)
-        rules = draw.choice([("cut",), RULES])
-        world = draw_world(draw, columns=2, deeds=draw.choice([0.05, 0.3]), rules=rules)
-        span = draw_span(draw, world)
-        plan = draw_safe_plan(draw, world, span, 4)
-        setup = Setup(world, span)
-        for step in plan:
-            setup = behind(setup, step)
-        if len(plan) < 4 and draw.random() < 0.5:
-            step = draw_step(draw, world, setup)
-            plan += (step,) if step else ()
-        mirrors = [step[:2] for step in plan if step[0] in ("up", "no up", "down", "no down")]
-        if not plan or len(set(mirrors)) < len(mirrors):
-            return None
-        steps = list(plan)
-        draw.shuffle(steps)
-        return world, span, tuple(steps), tuple(draw.choice([0, 1, 1, 2, 5]) for _ in steps)
-
     def test_drawn_tasks(self):
         many = 0
         for seed in range(110):
-            task = self.draw_task(seed)
+            task = draw_task(seed)
             if task is not None:
                 many += 1
                 self.assert_all(task)

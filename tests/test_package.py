@@ -4,7 +4,26 @@ import inspect
 import unittest
 from pathlib import Path
 
-from widerkeys import errors, judging, kinds, marks, orders, returns, runs, steps, windows, worlds, writers
+from widerkeys import (
+    desk,
+    errors,
+    journals,
+    judging,
+    kinds,
+    marks,
+    orders,
+    returns,
+    runs,
+    steps,
+    texts,
+    trials,
+    windows,
+    worlds,
+    writers,
+    yard,
+)
+
+from players import SHOP
 
 ROOT = Path(__file__).resolve().parent.parent
 FILES = sorted((ROOT / "widerkeys").rglob("*.py"))
@@ -27,6 +46,11 @@ class InterfaceTest(unittest.TestCase):
             (orders, ("cheapest", "shows_cheapest", "order_with", "musts")),
             (returns, ("ways_back", "no_return")),
             (writers, ("fewest",)),
+            (texts, ("show_plan", "read_plan", "show_run", "read_run", "show_world", "read_world")),
+            (yard, ("Yard",)),
+            (trials, ("Trial",)),
+            (journals, ("read_journal",)),
+            (desk, ("Desk",)),
         ):
             for name in names:
                 self.assertEqual(getattr(module, name).__module__, module.__name__)
@@ -35,9 +59,20 @@ class InterfaceTest(unittest.TestCase):
         for name in ("cut", "signed", "unsigned", "digits", "read"):
             self.assertIn(name, vars(kinds.Kind))
 
-    def test_attributes_are_set_when_a_kind_is_created(self):
+        for name in ("do", "wrongs", "events", "many", "late", "mark", "cells", "moment", "back"):
+            self.assertIn(name, vars(yard.Yard))
+        for name in ("copy", "trial", "tried", "journal", "__contains__", "__getitem__", "__setitem__", "__eq__"):
+            self.assertIn(name, vars(yard.Yard))
+        self.assertIn("say", vars(desk.Desk))
+
+    def test_attributes_are_set_when_an_object_is_created(self):
         kind = kinds.Kind(-5, 5)
         self.assertEqual([hasattr(kind, name) for name in ("low", "high", "size")], [True] * 3)
+        self.assertEqual([hasattr(SHOP, name) for name in ("narrow", "wide", "columns", "programs")], [True] * 4)
+        found = yard.Yard(SHOP, (1, 200))
+        self.assertEqual([found.wrongs, found.events, found.many, found.cells], [(), (), 0, ()])
+        self.assertEqual((len(found.moment), found.journal[:6]), (5, "narrow"))
+        self.assertEqual(desk.Desk(found.journal).yard, found)
 
     def test_names_of_parameters(self):
         wanted = {
@@ -66,6 +101,23 @@ class InterfaceTest(unittest.TestCase):
             returns.ways_back: ["world", "span", "plan", "backs"],
             returns.no_return: ["world", "span", "plan", "backs"],
             writers.fewest: ["task", "rows"],
+            texts.show_plan: ["plan"],
+            texts.read_plan: ["text"],
+            texts.show_run: ["run"],
+            texts.read_run: ["text"],
+            texts.show_world: ["world"],
+            texts.read_world: ["text"],
+            yard.Yard: ["world", "span"],
+            yard.Yard.do: ["self", "event"],
+            yard.Yard.late: ["self", "cell"],
+            yard.Yard.mark: ["self", "cell"],
+            yard.Yard.back: ["self"],
+            yard.Yard.copy: ["self"],
+            yard.Yard.trial: ["self", "keep"],
+            yard.Yard.tried: ["self", "look", "keep"],
+            journals.read_journal: ["text"],
+            desk.Desk: ["text"],
+            desk.Desk.say: ["self", "line"],
         }
         for told, names in wanted.items():
             self.assertEqual(list(inspect.signature(told).parameters), names)

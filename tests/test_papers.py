@@ -5,17 +5,17 @@ import unittest
 from itertools import permutations
 
 import second
-from test_orders import DOWN, IDLE, NEW, OLD, SHORT_SHOP, SPAN, STEPS, TASK, DrawnTest, cost_of, paces_of, task_of
+from drawn import draw_task
+from test_orders import IDLE, SHORT_SHOP, SPAN, STEPS, TASK, cost_of, paces_of, task_of
 from widerkeys.errors import BadPlan
 from widerkeys.judging import judged
 from widerkeys.orders import cheapest, shows_cheapest
 from widerkeys.steps import moments
-from widerkeys.worlds import World
 
-from players import ADD, ANEW, BYTE, FILL, NO_DOWN, RELEASE, SHOP, SHORT, UP, world_of
+from players import ADD, BYTE, FILL, RELEASE, SHOP, UP, world_of
 from samples import NO_INTEGERS, nested
 
-OTHERS = (True, False, None, 0, "", "order", "none", (), [], {}, {1: ()}, nested(20), BYTE, SHOP, ((),), ("order",))
+OTHERS = (True, False, None, 0, "", "order", "none", (), [], {}, {1: ()}, nested(20), BYTE, SHOP, ((),), ("order",), ("none",))
 ANSWER = cheapest(TASK)
 PAPERS = ANSWER[3]
 
@@ -80,6 +80,13 @@ class AnswerTest(PapersCase):
         self.assert_order(False, PAPERS, cost=43, order=dear)
         self.assert_order(False, PAPERS, cost=40, order=dear)
 
+    def test_a_place_told_twice(self):
+        # The fills are alike, but each one is to be done.
+        task = task_of(SHORT_SHOP, (ADD, FILL, FILL))
+        papers = cheapest(task)[3]
+        for order, good in (((0, 1, 2), True), ((0, 2, 1), True), ((0, 1, 1), False), ((0, 2, 2), False)):
+            self.assert_order(good, papers, cost=0, task=task, order=order)
+
     def test_a_cost_that_is_one_or_nought(self):
         task = task_of(SHORT_SHOP, (ADD,))
         self.assertEqual(cheapest(task)[2], 0)
@@ -114,6 +121,12 @@ class EntryTest(PapersCase):
         for at, entry in enumerate(PAPERS):
             for done in ((6,), (-1,), (0, 0), (1, 0), (1,), (True,), (0, 5), (0, 1, 2, 3, 4, 5, 6), [0], ("0",)):
                 self.assert_order(False, changed(PAPERS, at, changed(entry, 0, done)))
+
+    def test_done_of_an_entry_more(self):
+        # It costs so much that nothing else is asked of it.
+        table = ((START,),)
+        for done, good in (((0,), True), ((0, 3), True), ((3, 0), False), ((0, 0), False), ((-1,), False), ((6,), False)):
+            self.assert_order(good, tuple(sorted(PAPERS + ((done, 40, table),))))
 
     def test_costs(self):
         for at, entry in enumerate(PAPERS):
@@ -211,6 +224,15 @@ class FollowedTest(PapersCase):
             self.assertIs(shows_cheapest(task, ("none", papers)), good, papers)
         self.assertIs(shows_cheapest(task, ("order", (0, 1), 0, (((), 0, ((),)),))), False)
 
+    def test_a_first_moment_that_is_wrong_alone(self):
+        # The purge would leave a window in which no two numbers have one cut.
+        matcher = ("wide", (("id", "narrow", ("match",)),), (("id", "narrow", "cut", "", 1),))
+        task = (world_of(matcher), (100, 360), (("purge", 120),), (1,))
+        self.assertEqual(cheapest(task)[0], "none")
+        self.assertIs(shows_cheapest(task, cheapest(task)), True)
+        self.assertIs(shows_cheapest(task, ("none", (((), 0, ((),)),))), True)
+        self.assertIs(shows_cheapest(task, ("none", (((), 1, ((),)),))), False)
+
     def test_papers_for_a_lower_cost_or_for_none(self):
         # The papers for a cost show nothing of a greater one, and nothing of none.
         self.assertIs(shows_cheapest(TASK, ("none", PAPERS)), False)
@@ -286,7 +308,7 @@ class SecondLookTest(PapersCase):
     def test_drawn_papers(self):
         told = {True: 0, False: 0}
         for seed in range(60):
-            task = DrawnTest.draw_task(None, seed)
+            task = draw_task(seed)
             if task is None or len(task[2]) > 3:
                 continue
             answer = cheapest(task)

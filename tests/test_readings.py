@@ -172,6 +172,12 @@ class FurthestTest(unittest.TestCase):
         self.assert_furthest(None, cutter("show"), SPAN, (("grow", 300), ("purge", 280)), 0)
         self.assert_furthest(485, cutter("match"), (230, 300), (("grow", 400), ("purge", 280)), 0)
 
+    def test_a_purge_and_a_grow_behind_it(self):
+        # From 40 to 295 no two numbers have one cut; the purge leaves 270 to 285 at least.
+        plan = (("grow", 290), ("purge", 270), ("grow", 299))
+        self.assert_furthest(295, cutter("match"), (40, 100), plan, 0)
+        self.assertEqual(judged(cutter("match"), (40, 100), (("grow", 296),) + plan[1:])[0], "wrong")
+
     def test_none(self):
         self.assert_furthest(None, cutter("order"), (1, 255), (("grow", 300),), 0)
         self.assert_furthest(None, SHOP, SPAN, (ADD, RELEASE, RELEASE, ("grow", 300)), 3)

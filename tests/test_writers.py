@@ -1,12 +1,11 @@
 """The fewest rows that have to write both sides."""
 
-import random
 import unittest
 from itertools import combinations
 
-from test_orders import DrawnTest, safe_orders
+from drawn import draw_task
+from test_orders import safe_orders
 from widerkeys.errors import BadRows, BadTask
-from widerkeys.kinds import Kind
 from widerkeys.orders import cheapest
 from widerkeys.worlds import World
 from widerkeys.writers import fewest
@@ -122,7 +121,7 @@ class AllSetsTest(unittest.TestCase):
     def test_drawn_tasks(self):
         many = set()
         for seed in range(160):
-            task = DrawnTest.draw_task(None, seed)
+            task = draw_task(seed)
             if task is None or len(task[2]) > 4:
                 continue
             world = task[0]

@@ -34,7 +34,7 @@ def carried(scene, change, column, told):
     word, step = change
     if step[0] in FILLS and column == step[1]:
         return _carried_by_fill(word, told)
-    if step[0] in ("release", "withdraw") and word == "end":
+    if step[0] in ("release", "withdraw"):
         running = scene.holds[0]
         late = tuple([one for one in told[4] if one[:2] in running])
         return (*told[:4], late, told[5])

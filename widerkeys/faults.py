@@ -113,10 +113,12 @@ def _wrong_pair(scene, deed, one, one_reading, other, other_reading):
     kind, first = scene.world.narrow, scene.span[0]
     one_span = numbers_of(scene.world, first, one.told[0], one.told[1])
     other_span = numbers_of(scene.world, first, other.told[0], other.told[1])
-    if _is_exact_great(one, one_reading) or _is_exact_great(other, other_reading):
-        # One great number may be meant in both. What is held of it cut is less than what is held exact.
-        wrong = deed == "match" or _is_exact_great(other, other_reading)
-        return (one_span[0], one_span[0]) if wrong else None
+    if _is_exact_great(one, one_reading):
+        # What is wrong then is found with the other one as the first.
+        return None
+    if _is_exact_great(other, other_reading):
+        # One great number may be meant in both, and is held cut, and thus as a lesser one, in the first.
+        return one_span[0], one_span[0]
     return alike(kind, one_span, other_span) if deed == "match" else ordered(kind, one_span, other_span)
 
 

@@ -4,7 +4,7 @@ from widerkeys.carrying import changes_of
 from widerkeys.errors import BadPlace, Unsafe
 from widerkeys.forms import is_tuple_of
 from widerkeys.integers import is_between
-from widerkeys.limits import Limit
+from widerkeys.limits import furthest_last
 from widerkeys.marking import first_table
 from widerkeys.scenes import Scene
 from widerkeys.sorting import ascending
@@ -55,7 +55,7 @@ def furthest(world, span, plan, index):
     moments(world, span, plan)
     if not is_between(index, 0, len(plan) - 1) or plan[index][0] != "grow":
         raise BadPlace(index)
-    return Limit(world, span, plan, index).best()
+    return furthest_last(world, span, plan, index)
 
 
 def _readings_in(scene, table):

@@ -9,19 +9,17 @@ from widerkeys.tables import behind_step, closed_table
 
 
 class Limit:
-    """The grow of a plan that stands at an index, with what is ahead of it and behind it."""
+    """A grow of a plan, with what holds ahead of it and the steps behind it."""
 
-    def __init__(self, world, span, plan, index):
-        self.world = world
-        self.behind = plan[index + 1 :]
-        # (setup, table) ahead of the grow; None if something is wrong there.
-        self.ahead = _behind_all(_begun(world, span), plan[:index])
-        first, last = _span_behind(span, plan[:index])
-        purges = [step[1] for step in self.behind if step[0] == "purge"]
+    def __init__(self, setup, table, behind):
+        self.setup = setup
+        self.table = table
+        self.behind = behind
+        purges = [step[1] for step in behind if step[0] == "purge"]
         # The first numbers that the last one in use has to fit to.
-        self.firsts = [first, *purges]
-        self.bottom = last + 1
-        self.ceiling = world.wide.high
+        self.firsts = [setup.span[0], *purges]
+        self.bottom = setup.span[1] + 1
+        self.ceiling = setup.world.wide.high
         self.narrow_down()
 
     def narrow_down(self):
@@ -44,15 +42,13 @@ class Limit:
 
     def is_possible(self, number):
         firsts = [first for first in self.firsts if first <= number]
-        return all([is_fit(self.world, (first, number)) for first in firsts])
+        return all([is_fit(self.setup.world, (first, number)) for first in firsts])
 
     def is_safe(self, number):
-        return _behind_all(self.ahead, (("grow", number), *self.behind)) is not None
+        return _behind_all((self.setup, self.table), (("grow", number), *self.behind)) is not None
 
     def best(self):
         """The greatest possible number with which nothing is wrong; None if there is none."""
-        if self.ahead is None:
-            return None
         # The number that the plan itself has is possible, so there is such a one.
         number = self.possible_up_to(self.ceiling)
         return number if self.is_safe(number) else self.search(number - 1)
@@ -75,6 +71,14 @@ class Limit:
         return best
 
 
+def furthest_last(world, span, plan, index):
+    """The greatest number that can stand in a grow such that the plan is possible and safe, or None."""
+    ahead = _behind_all(_begun(world, span), plan[:index])
+    if ahead is None:
+        return None
+    return Limit(ahead[0], ahead[1], plan[index + 1 :]).best()
+
+
 def _begun(world, span):
     """(setup, table) of the first moment; None if something is wrong in it."""
     setup = Setup(world, span)
@@ -89,13 +93,3 @@ def _behind_all(place, steps):
             return None
         place = behind_step(place[0], place[1], step)
     return place
-
-
-def _span_behind(span, steps):
-    first, last = span
-    for step in steps:
-        if step[0] == "grow":
-            last = step[1]
-        if step[0] == "purge":
-            first = step[1]
-    return first, last

@@ -29,7 +29,8 @@ def no_return(world, span, plan, backs):
     if ways[-1] is not None:
         return None
     done = len(ways) - 1
-    while done > 0 and ways[done - 1] is None:
+    # From the beginning there is always a way: that of no steps.
+    while ways[done - 1] is None:
         done = done - 1
     return done
 

@@ -7,6 +7,12 @@ language keep Python's own sorting for what is plainly numbers or strings.
 
 def ascending(items):
     """The members of a list, all of one sort, sorted, without doubles, as a tuple."""
+    row = in_order(items)
+    return tuple([item for at, item in enumerate(row) if at == 0 or item != row[at - 1]])
+
+
+def in_order(items):
+    """The members of a list, all of one sort, sorted, as a tuple."""
     rows = [[item] for item in items]
     while len(rows) > 1:
         rows = [_merged(rows[at : at + 2]) for at in range(0, len(rows), 2)]
@@ -14,7 +20,7 @@ def ascending(items):
 
 
 def _merged(rows):
-    """One ascending list of one, or of two, such lists."""
+    """One sorted list of one, or of two, such lists."""
     if len(rows) == 1:
         return rows[0]
     one, other = rows
@@ -25,9 +31,6 @@ def _merged(rows):
             merged.append(one[left])
             left = left + 1
         else:
-            # What is in both is taken from the other one alone.
-            if one[left] == other[right]:
-                left = left + 1
             merged.append(other[right])
             right = right + 1
     return merged + one[left:] + other[right:]

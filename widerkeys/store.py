@@ -22,6 +22,16 @@ class Store:
         self.unvisited = {}
         self.narrowing = Numbers(world.narrow)
 
+    def twin(self):
+        """Another store in which all is as it is here."""
+        twin = Store(self.world, self.holds[4])
+        twin.enter(self.setup)
+        twin.started = self.started
+        twin.stock = {cell: self.stock[cell] for cell in self.stock}
+        twin.under_way = {cell: list(self.under_way[cell]) for cell in self.under_way}
+        twin.unvisited = {cell: True for cell in self.unvisited}
+        return twin
+
     def enter(self, setup):
         self.setup = setup
         self.holds = setup.what_holds()

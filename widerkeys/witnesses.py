@@ -9,7 +9,7 @@ from widerkeys.marking import aged_word, numbers_of
 from widerkeys.plays import played
 from widerkeys.store import Store
 
-BEGINNINGS = ("there", "set", "copy")
+SETTINGS = ("set", "copy")
 SENT_WORDS = ("same", "cut")
 
 
@@ -57,7 +57,7 @@ class Witness:
         meant = [number]
         current = number
         for at in range(len(chain) - 1, 0, -1):
-            if _is_beginning(chain[at]):
+            if _is_setting(chain[at]):
                 # It has to be in use as long as it is meant, and must not be taken for the last one.
                 told = chain[at - 1].told
                 current = self.least_number(chain[at].stage, told)
@@ -76,8 +76,6 @@ class Witness:
         node = chain[at]
         if node.deed[0] == "visit":
             return "visit", row
-        if node.deed[0] == "there":
-            return "there", node.column, row, meant[at]
         worth = meant[at]
         if node.deed[0] == "copy":
             worth = self.row_of_cell(node.source, meant[at])
@@ -104,10 +102,9 @@ def run_to(world, span, changes, firsts, fault):
     _play_all(store, run, witness.theres)
     for stage, deeds in enumerate(witness.deeds):
         if stage > 0:
-            change = changes[stage - 1]
-            if change[0] == "end":
-                _play_all(store, run, [("visit", row) for _, row in list(store.unvisited)])
-            _play_all(store, run, [change])
+            # Only the end of a fill waits for visits.
+            _play_all(store, run, [("visit", row) for _, row in list(store.unvisited)])
+            _play_all(store, run, [changes[stage - 1]])
         _play_all(store, run, deeds)
     return (*run, *_last_event(fault, rows))
 
@@ -136,9 +133,9 @@ def _chain_of(node):
     return chain[::-1]
 
 
-def _is_beginning(node):
-    """Whether another number is meant in the cell from this node on."""
-    return node.deed != () and node.deed[0] in BEGINNINGS
+def _is_setting(node):
+    """Whether something is set by the event of a node."""
+    return node.deed != () and node.deed[0] in SETTINGS
 
 
 def _origins_of(chain):
@@ -147,7 +144,7 @@ def _origins_of(chain):
     known = {}
     meant = ""
     for at, node in enumerate(chain):
-        if _is_beginning(node):
+        if _is_setting(node):
             known = {(*late[:2], aged_word(meant, late[2])): known[late] for late in known}
             for word in SENT_WORDS:
                 known[(*node.deed[1:3], word)] = at
