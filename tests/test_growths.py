@@ -37,6 +37,16 @@ class SequenceTest(unittest.TestCase):
 
         self.assert_all_sequences(world, (1, 300), (ADD, ("add", "ref")), begins, check)
 
+    def test_lower_tops_ahead_of_what_is_written_over(self):
+        # The cell of ref comes last, and what is copied over it has the greater top.
+        reads = (("id", "narrow", ()),)
+        world = World(BYTE, SHORT, ("id", "ref"), (("shop", (IDLE, ("wide", reads, (("ref", "wide", "cut", "id", 1),)))),))
+        tops = [("id", ("small", top, "same", word, (), "")) for top, word in ((255, "old"), (200, "same"))]
+        for begins in (tops, tops[::-1]):
+            plan = (ADD, ("add", "ref"), RELEASE)
+            table = grown_of(world, (1, 300), plan, *begins, ("ref", ("small", 255, "same", "none", (), ""))).greatest()
+            self.assertIn(("small", 255, "old", "same", (), ""), table[1])
+
     def test_marks_beside_each_other(self):
         late = lambda *words: tuple(("shop", 1, word) for word in words)
         world = world_of(IDLE, writer("narrow first"))

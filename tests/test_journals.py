@@ -173,6 +173,29 @@ class BadTest(JournalCase):
             self.assert_bad(len(rows), rows + [row, "visit 9", row])
         self.assert_bad(len(HEAD) + 1, HEAD + ["span 1 400", "there id 0 0"] + ROWS)
 
+    def test_one_sign_changed(self):
+        draw = random.Random(8)
+        text = "\n".join(HEAD + ["span 1 400"] + ROWS)
+        told = 0
+        for _ in range(300):
+            at = draw.randrange(1, len(text) + 1)
+            sign = draw.choice(" \n-.0159abdegilnoprstuw")
+            for changed in (text[:at] + sign + text[at:], text[: at - 1] + text[at:], text[: at - 1] + sign + text[at:]):
+                try:
+                    yard = read_journal(changed)
+                except BadText as error:
+                    # What is ahead of the row that is told is a journal, or the beginning of one.
+                    rows = changed.split("\n")
+                    self.assertTrue(0 <= error.value <= len(rows))
+                    if error.value > len(HEAD):
+                        self.assertEqual(read_journal("\n".join(rows[: error.value])).many, error.value - len(HEAD) - 1)
+                    continue
+                except (BadWorld, BadSpan):
+                    continue
+                told += 1
+                self.assertEqual(yard.journal, changed)
+        self.assertGreater(told, 15)
+
     def test_forms_ahead_of_what_happens(self):
         rows = HEAD + ["span 1 400", "visit 0", "x"]
         self.assert_bad(len(rows) - 1, rows)

@@ -109,7 +109,8 @@ class PlanTest(JudgedCase):
         first = ("wide", tuple((name, "narrow", ()) for name in names), (("a", "narrow", "cut", "", 1),))
         second_edition = ("wide", first[1], (("b", "both", "cut", "a", 1),))
         third = ("wide", first[1], (("c", "narrow first", "empty", "b", 1),))
-        world = World(BYTE, SHORT, names, tuple((name, (first, second_edition, third)) for name in ("p", "q")))
+        programs = tuple((name, (first, second_edition, third)) for name in ("p", "q"))
+        world = World(BYTE, SHORT, names, programs + (("r", (first, second_edition, first)),))
         plan = (("add", "b"), ("add", "c"), ("release", "p"), ("release", "q"), ("release", "p"))
         tables = self.assert_safe(world, SPAN, plan)
         self.assertEqual([len(table) for table in tables], [3] * 9)
@@ -455,6 +456,12 @@ class ComparisonTest(JudgedCase):
                 self.assert_wrong(world, (256, 300), plan, "match")
             else:
                 self.assert_safe(world, (256, 300), plan)
+
+    def test_all_exact(self):
+        for deeds in (("match",), ("order",), DEEDS):
+            programs = (("a", (IDLE, writer("both"))), ("b", (IDLE, reader("wide", deeds=deeds))))
+            world = World(BYTE, SHORT, ("id",), programs)
+            self.assert_safe(world, (1, 600), (ADD, ANEW, ("release", "a"), ("release", "b")))
 
     def test_exact_ahead_of_cut(self):
         # Of 256 to 600 many numbers have one cut, but what is exact is not taken for another one.

@@ -165,7 +165,7 @@ class TriedTest(TrialCase):
 
         self.assertEqual(self.yard.tried(look), (9, 9, None))
         self.assertEqual(told_of(self.yard), self.before)
-        self.assertEqual(self.yard.tried(look, keep=True), (9, 9, None))
+        self.assertEqual(self.yard.tried(keep=True, look=look), (9, 9, None))
         self.assertEqual(self.yard["id", 0], (9, 9, None))
 
     def test_errors(self):

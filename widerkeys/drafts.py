@@ -39,7 +39,7 @@ class Draft:
             return None
         return self.programs[-1][1][-1]
 
-    def world(self):
+    def made(self):
         """The world that is made of it."""
         programs = []
         for name, editions in self.programs:

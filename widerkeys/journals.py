@@ -15,7 +15,7 @@ def read_journal(text):
     draft, at = drafted(rows)
     span = _read_span(rows, at)
     events = read_rows(rows, at + 1, read_event)
-    yard = Yard(draft.world(), span)
+    yard = Yard(draft.made(), span)
     for index, event in enumerate(events):
         try:
             yard.do(event)

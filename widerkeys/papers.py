@@ -69,7 +69,7 @@ def _by_done(papers):
 
 def _is_followed(search, entries, entry, cost):
     """Whether nothing that costs less than this can come of an entry without another entry for it."""
-    done, spent, table = entry
+    done, spent, _ = entry
     if len(done) == len(search.steps):
         return cost is not None and spent >= cost
     for place in search.places():

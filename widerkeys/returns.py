@@ -2,7 +2,6 @@
 
 from widerkeys.errors import BadBacks, Unsafe
 from widerkeys.forms import is_tuple_of
-from widerkeys.setups import Setup
 from widerkeys.steps import is_step, moments
 from widerkeys.tables import behind_step
 from widerkeys.tasks import mirrors_once

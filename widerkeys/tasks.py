@@ -1,12 +1,11 @@
 """Tasks: steps that are all to be done, and what they cost."""
 
-from widerkeys.carrying import LONG
 from widerkeys.editions import edition_of
 from widerkeys.forms import is_tuple_of
 from widerkeys.integers import is_between
 from widerkeys.spans import is_fit
 from widerkeys.steps import is_step
-from widerkeys.worlds import IN_TWO_EVENTS, World
+from widerkeys.worlds import World
 from widerkeys.writing import spot_of
 
 MOST_STEPS = 6

@@ -69,7 +69,7 @@ def read_world(text):
     draft, many = drafted(rows)
     if many < len(rows):
         raise BadText(many)
-    return draft.world()
+    return draft.made()
 
 
 def _rows_of(text):

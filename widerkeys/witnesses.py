@@ -147,7 +147,8 @@ def _origins_of(chain):
         if _is_setting(node):
             known = {(*late[:2], aged_word(meant, late[2])): known[late] for late in known}
             for word in SENT_WORDS:
-                known[(*node.deed[1:3], word)] = at
+                sent = (*node.deed[1:3], word)
+                known[sent] = at
         elif node.deed != () and node.deed[0] == "come":
             origins[at] = known[node.deed[1:]]
         # What is late of an edition that runs no more is known no more.
