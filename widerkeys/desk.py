@@ -6,6 +6,7 @@ from widerkeys.journals import read_journal
 from widerkeys.lines import read_count, read_event
 
 EMPTY = "-"
+CELL_LINES = ("cell", "mark")
 
 
 class Desk:
@@ -78,8 +79,6 @@ def _wrongs(yard):
     told = [f"{index} {word}" for index, word in yard.wrongs]
     return ", ".join(told) if told else EMPTY
 
-
-CELL_LINES = ("cell", "mark")
 
 PLAIN_LINES = {
     "back": _back,
