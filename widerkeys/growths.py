@@ -78,7 +78,7 @@ def grown(scene, stage, begins):
     while at < len(growth.queue):
         node = growth.queue[at]
         at = at + 1
-        # What leads on from a greater mark leads on from this one, too.
+        # Else a greater mark has come up, which leads to all that this one leads to.
         if node.stands:
             _lead_on(growth, node)
     return growth
