@@ -32,6 +32,29 @@ FILES = sorted((ROOT / "widerkeys").rglob("*.py"))
 LIBRARY = ("heapq", "math", "itertools", "collections")
 
 
+def rows_of_exits(tree):
+    """All that stands in the rows of methods `__exit__` and of `finally`."""
+    for node in ast.walk(tree):
+        rows = node.body if isinstance(node, ast.FunctionDef) and node.name == "__exit__" else []
+        for row in rows + getattr(node, "finalbody", []):
+            yield from ast.walk(row)
+
+
+def asks_for_none_alone(test):
+    """Whether a test asks of names and attributes whether they are None, and nothing else."""
+    if isinstance(test, ast.BoolOp):
+        return all(asks_for_none_alone(part) for part in test.values)
+    if isinstance(test, ast.UnaryOp):
+        return isinstance(test.op, ast.Not) and asks_for_none_alone(test.operand)
+    return (
+        isinstance(test, ast.Compare)
+        and isinstance(test.left, (ast.Name, ast.Attribute))
+        and [type(sign) for sign in test.ops] in ([ast.Is], [ast.IsNot])
+        and isinstance(test.comparators[0], ast.Constant)
+        and test.comparators[0].value is None
+    )
+
+
 class InterfaceTest(unittest.TestCase):
     def test_functions_and_classes_stand_in_their_files(self):
         for module, names in (
@@ -131,7 +154,7 @@ class ReadmeTest(unittest.TestCase):
 
 
 class LanguageTest(unittest.TestCase):
-    """The rules of the language that are plain to see: L1, L2, L10, L14, L16."""
+    """The rules of the language that are plain to see: L1, L2, L6, L10, L14, L16."""
 
     def test_the_package_holds_nothing_but_python(self):
         for path in (ROOT / "widerkeys").rglob("*"):
@@ -151,6 +174,29 @@ class LanguageTest(unittest.TestCase):
             for node in ast.walk(ast.parse(path.read_text())):
                 if isinstance(node, ast.FunctionDef):
                     self.assertLessEqual(node.end_lineno - node.lineno + 1, 40, (path, node.name))
+
+    def test_exits_ask_for_none_alone(self):
+        for path in FILES:
+            for node in rows_of_exits(ast.parse(path.read_text())):
+                self.assertNotIsInstance(node, (ast.IfExp, ast.While, ast.Assert), path)
+                if isinstance(node, ast.If):
+                    self.assertTrue(asks_for_none_alone(node.test), (path, ast.unparse(node.test)))
+
+    def test_what_exits_may_ask(self):
+        for text, wanted in (
+            ("kind is not None or self.keeps is None", True),
+            ("not (kind is None and held.many is not None)", True),
+            ("kind is not None or not self.keeps", False),
+            ("self.keeps", False),
+            ("kind", False),
+            ("self.keeps is True", False),
+            ("self.keeps == None", False),
+            ("self.keeps is kind", False),
+            ("rows[0] is None", False),
+            ("len(rows) is None", False),
+            ("kind is None is None", False),
+        ):
+            self.assertEqual(asks_for_none_alone(ast.parse(text, mode="eval").body), wanted, text)
 
     def test_imports_come_from_the_package(self):
         for path in FILES:

@@ -4,9 +4,10 @@
 class Trial:
     """A context manager that gives a yard, and sets it back behind the block."""
 
-    def __init__(self, yard, keeps):
+    def __init__(self, yard, keep):
         self.yard = yard
-        self.keeps = keeps
+        # True or None, as an exit may only ask of an attribute whether it is None (L6).
+        self.keeps = True if keep is True else None
         # The state of the yard ahead of the block.
         self.ahead = None
 
@@ -16,5 +17,5 @@ class Trial:
 
     def __exit__(self, kind, value, trace):
         yard = self.yard
-        if kind is not None or not self.keeps:
+        if kind is not None or self.keeps is None:
             yard.state = self.ahead

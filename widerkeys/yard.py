@@ -75,7 +75,7 @@ class Yard:
 
     def trial(self, *, keep=False):
         """A context manager behind whose block the yard is as it was, unless it is kept."""
-        return Trial(self, keep is True)
+        return Trial(self, keep)
 
     def tried(self, look, *, keep=False):
         """What a function returns that is called with the yard in a trial."""
